@@ -1,0 +1,1 @@
+"""Fewbits: numbers in few bits."""

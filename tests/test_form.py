@@ -1,6 +1,7 @@
 """The form of the package's files, so far as it can be read off them (LANGUAGE.md, by its rules' numbers)."""
 
 import ast
+import builtins
 import pathlib
 import re
 import unittest
@@ -28,6 +29,16 @@ BARRED_WORDS = re.compile(
     r"\b(type|typing|typing_extensions|enum|Enum|IntEnum|StrEnum|Flag|IntFlag|Generic|Protocol|ABC|ABCMeta"
     r"|namedtuple|NamedTuple|TypedDict|TYPE_CHECKING|abstractmethod)\b|dataclass|overload|contextmanager"
 )
+
+WALKED = ("zip", "enumerate", "reversed", "range", "items", "keys", "values")
+WALKERS = ("list", "tuple", "dict", "sorted", "sum", "any", "all", "enumerate", "zip", "min", "max")
+KEYWORDS = {
+    "sorted": ("key", "reverse"), "min": ("key", "default"), "max": ("key", "default"), "sum": ("start",),
+    "enumerate": ("start",), "zip": ("strict",),
+}
+BARRED_NAMES = """register mro elements open input version_info with_traceback add_note attrgetter breakpoint builtins
+compile copyright credits delattr dir eval exec exit gc getattr globals hasattr help id importlib license locals
+methodcaller os quit setattr super type vars sys""".split()
 
 
 def text_faults(text):
@@ -72,6 +83,61 @@ def name_faults(tree):
         if isinstance(node, ast.Name) and node.id not in bound and node.id not in OWN_NAMES:
             faults.append("L8: " + node.id)
     return faults
+
+
+def called_name(node):
+    if not isinstance(node, ast.Call):
+        return None
+    return getattr(node.func, "id", None) or getattr(node.func, "attr", None)
+
+
+def walk_faults(tree):
+    """L23: what is made to be walked is walked on the spot."""
+    allowed = []
+    for node in ast.walk(tree):
+        if isinstance(node, (ast.For, ast.comprehension)):
+            allowed.append(node.iter)
+        if called_name(node) in WALKERS and node.args:
+            allowed.append(node.args[0])
+        if called_name(node) == "join" and isinstance(node.func.value, ast.Constant):
+            allowed.extend(node.args)
+    found = [node for node in ast.walk(tree) if called_name(node) in WALKED]
+    return ["L23: " + ast.unparse(node) for node in found if not any([node is each for each in allowed])]
+
+
+def keyword_faults(tree):
+    """L22; here no function of the package's own is called by keywords either."""
+    faults = []
+    for node in ast.walk(tree):
+        if isinstance(node, ast.Call):
+            for keyword in node.keywords:
+                if keyword.arg not in KEYWORDS.get(called_name(node), ()):
+                    faults.append("L22: " + ast.unparse(node))
+    return faults
+
+
+def local_faults(tree):
+    """L15, L17: no parameter and no local is called like an import, a class of the file, or a name of Python's own."""
+    barred = BARRED_NAMES + dir(builtins)
+    for node in tree.body:
+        if isinstance(node, ast.ImportFrom):
+            barred.extend([alias.name for alias in node.names])
+        elif isinstance(node, ast.ClassDef):
+            barred.append(node.name)
+    faults = []
+    for node in tree.body:
+        if isinstance(node, (ast.FunctionDef, ast.ClassDef)):
+            bound = bound_names(node)
+            bound.remove(node.name)
+            faults.extend(["L15: " + name for name in bound if name in barred])
+    used = [node.attr for node in ast.walk(tree) if isinstance(node, ast.Attribute)]
+    faults.extend(["L17: " + name for name in bound_names(tree) + used if name in BARRED_NAMES])
+    return faults
+
+
+def set_faults(tree):
+    found = [node for node in ast.walk(tree) if isinstance(node, ast.Set) or called_name(node) in ("set", "frozenset")]
+    return ["L24: " + ast.unparse(node) for node in found]
 
 
 def is_docstring(node, tree):
@@ -164,6 +230,7 @@ def attribute_faults(tree, own):
 def faults_of(text, own=()):
     tree = ast.parse(text)
     faults = text_faults(text) + name_faults(tree) + top_faults(tree) + attribute_faults(tree, own)
+    faults.extend(walk_faults(tree) + keyword_faults(tree) + local_faults(tree) + set_faults(tree))
     for node in ast.walk(tree):
         if not isinstance(node, STATEMENTS + EXPRESSIONS):
             faults.append("L6, L7: " + ast.dump(node))
@@ -223,6 +290,8 @@ class FormOfOthers(unittest.TestCase):
         text = '"""Why."""\n\nBOUND = 64\n\n\ndef f(n):\n    if n is None:\n        return 2 ** 64\n    return n // 2\n'
         self.assertEqual(faults_of(text), [])
         self.assertEqual(faults_of("def f(e):\n    return e.row\n", ["row"]), [])
+        self.assertEqual(faults_of("def f(n):\n    return [a + b for a, b in enumerate(zip(n, n))]\n"), [])
+        self.assertEqual(faults_of("def f(n):\n    for k in range(3):\n        n = n + k\n    return n\n"), [])
 
     def test_other_code_is_not(self):
         others = (
@@ -233,6 +302,11 @@ class FormOfOthers(unittest.TestCase):
             "class A:\n    x = 1\n", "def f(n):\n    return n.hex()\n",
             "def f(n):\n    return [i for i in n for j in i]\n", "def f(n):\n    return {i for i in n}\n",
             "def f(n):\n    a = b = n\n    return a\n", "print(1)\n",
+            "def f(n):\n    for k in reversed(range(n)):\n        return k\n",
+            "def f(n):\n    xs = zip(n, n)\n    return xs\n", "def f(n):\n    return list(zip(n, range(3)))\n",
+            "def f(n):\n    return int('1', base=n)\n",
+            "from fewbits.bits import full\n\n\ndef f(full):\n    return full\n", "def f(n):\n    hash = n\n    return hash\n",
+            "def f(n):\n    return {1, 2, n}\n", "def f(n):\n    return set(n)\n", "def f(e):\n    return e.input\n",
             "def f(n):\n" + "    n = n + 1\n" * 40 + "    return n\n", "# " + "x" * 120 + "\n",
         )
         for text in others:

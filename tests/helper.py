@@ -3,6 +3,7 @@
 The reckoning here goes by texts of bits and by remainders, not by the package's masks.
 """
 
+import itertools
 import random
 
 BITWISE = ("and", "or", "xor")
@@ -184,3 +185,45 @@ def some_inputs(program, seed, count=20):
     made = [tuple(0 for width in widths), tuple(2 ** width - 1 for width in widths)]
     made.extend(tuple(some_number(rng, width) for width in widths) for _ in range(count))
     return made
+
+
+# Facts as patterns: a text of 0, 1 and ? for what isn't known, the highest bit first, and how many are alike.
+
+
+def fact_of(text, alike):
+    return (mask_of(text, "0"), mask_of(text, "1"), alike)
+
+
+def pattern_of(fact, width):
+    bits = zip(bits_of(fact[0], width), bits_of(fact[1], width))
+    return ("".join("0" if nought == "1" else "1" if one == "1" else "?" for nought, one in bits), fact[2])
+
+
+def can_hold(text, alike):
+    return not ("0" in text[:alike] and "1" in text[:alike])
+
+
+def facts_of_width(width):
+    """All patterns of the width that hold of some number."""
+    texts = ["".join(signs) for signs in itertools.product("01?", repeat=width)]
+    return [(text, alike) for text in texts for alike in range(1, width + 1) if can_hold(text, alike)]
+
+
+def some_fact(rng, width):
+    """A pattern that holds of some number, closed or not."""
+    share = rng.choice((0, 0.2, 0.5, 0.9, 1))
+    alike = rng.choice((1, 1, rng.randint(1, width)))
+    number = bits_of(some_number(rng, width), width)
+    bits = number[0] * alike + number[alike:]
+    return ("".join(bit if rng.random() < share else "?" for bit in bits), alike)
+
+
+def leading(text, sign):
+    return len(text) - len(text.lstrip(sign))
+
+
+def closed_pattern(text, alike):
+    for sign in "01":
+        if sign in text[:alike]:
+            text = sign * alike + text[alike:]
+    return (text, max(alike, leading(text, "0"), leading(text, "1")))

@@ -6,6 +6,8 @@ The reckoning here goes by texts of bits and by remainders, not by the package's
 import itertools
 import random
 
+from fewbits.rules import rule
+
 BITWISE = ("and", "or", "xor")
 SUMS = ("add", "sub", "mul")
 SHIFTS = ("left", "right", "slide")
@@ -140,9 +142,8 @@ def some_shift(rng, width):
     return min(63, rng.choice((0, 1, width - 1, width, 63, rng.randint(0, 63), rng.randint(0, width))))
 
 
-def some_row(rng, rows, most):
-    """A row of any word that fits behind these rows; None where none of the drawn word does."""
-    word = rng.choice(WORDS[1:])
+def some_row(rng, rows, word, most):
+    """A row of the word that fits behind these rows; None where none does."""
     if word == "num" or not rows:
         width = rng.choice([row[1] for row in rows] + [rng.randint(1, most)])
         return ("num", width, some_number(rng, width))
@@ -165,17 +166,49 @@ def some_row(rng, rows, most):
     return None if choice is None else (word, width, choice, first, second)
 
 
-def some_program(seed, length=20, most=12, ins=3, in_most=None):
+def some_program(seed, length=20, most=12, ins=3, least=1, words=WORDS[1:]):
     """A good program; the same one for the same seed."""
     rng = random.Random(seed)
-    rows = [("in", rng.randint(1, in_most or most)) for _ in range(ins)]
+    rows = [("in", rng.randint(least, most)) for _ in range(ins)]
     while len(rows) < length:
-        row = some_row(rng, rows, most)
+        row = some_row(rng, rows, rng.choice(words), most)
         if row is not None:
             rows.append(row)
     left = unused(rows)
     outs = rng.sample(left, min(len(left), rng.randint(1, 7))) + [rng.randrange(len(rows))]
     return (tuple(rows), tuple(outs))
+
+
+def with_known_bits(rng, rows, width):
+    """Two numbers made so that sums and products of them are often exchanged: behind the rows, as numbers of rows."""
+    mask = some_number(rng, width)
+    turned = mask ^ (2 ** width - 1)
+    x, y = some_operand(rng, rows, width), some_operand(rng, rows, width)
+    count = len(rows)
+    kinds = (
+        (("num", width, 2 ** rng.randrange(width)),),
+        (("num", width, mask), ("and", width, x, count), ("num", width, turned), ("and", width, y, count + 2)),
+        (("num", width, mask), ("or", width, x, count), ("and", width, y, count)),
+        (("num", width, 2 ** rng.randint(0, width) - 1), ("and", width, x, count), ("num", width, turned)),
+    )
+    made = rng.choice(kinds)
+    rows.extend(made)
+    return (x if len(made) == 1 else rng.choice((x, count + 1)), len(rows) - 1)
+
+
+def trade_program(seed, length=24, width=8):
+    """One in which much is exchanged: numbers of one width, of which some bits are known."""
+    rng = random.Random(seed)
+    rows = [("in", width) for _ in range(4)]
+    while len(rows) < length:
+        pair = list(with_known_bits(rng, rows, width))
+        rng.shuffle(pair)
+        rows.append((rng.choice(TWO_OF_ONE_WIDTH), width) + tuple(pair))
+        further = some_row(rng, rows, rng.choice(("left", "right", "and", "xor", "pick", "cut", "less")), width)
+        if further is not None:
+            rows.append(further)
+    left = unused(rows)
+    return (tuple(rows), tuple(rng.sample(left, min(len(left), rng.randint(2, 8)))))
 
 
 def some_inputs(program, seed, count=20):
@@ -227,3 +260,107 @@ def closed_pattern(text, alike):
         if sign in text[:alike]:
             text = sign * alike + text[alike:]
     return (text, max(alike, leading(text, "0"), leading(text, "1")))
+
+
+def weakened(rng, fact, width):
+    if rng.random() < 0.5:
+        return fact
+    return (fact[0] & rng.randrange(2 ** width), fact[1] & rng.randrange(2 ** width), rng.randint(1, fact[2]))
+
+
+def weaker_facts(program, seed):
+    """Facts that the looker lets by, most of them saying less than the program's own."""
+    rng = random.Random(seed)
+    rows = program[0]
+    facts = []
+    for row in rows:
+        ahead = row_operands(row)
+        told = rule(row, tuple([rows[a][1] for a in ahead]), tuple([facts[a] for a in ahead]))
+        facts.append(weakened(rng, told, row[1]))
+    return tuple(facts)
+
+
+# Needs bit by bit: of one asked bit, for each operand the places of the bits it hangs on (point 14).
+
+
+def trailing(text, sign):
+    return leading(text[::-1], sign)
+
+
+def settled_places(bit, one, other, settles):
+    """Of and, or: one and other are the patterns' signs at the bit."""
+    first = [] if other == settles and one != settles else [bit]
+    return [first, [] if one == settles else [bit]]
+
+
+def mul_places(bit, one, other):
+    h = bit + 1
+    u = min(h, trailing(other, "0"))
+    g = min(h - u, trailing(one, "0"))
+    return [list(range(h - u)), list(range(h - g))]
+
+
+def moved_places(word, width, v, k, bit):
+    """Of a row with one operand: where its bit comes from."""
+    top = v - 1
+    moved = {
+        "left": bit - k, "right": bit + k, "slide": min(bit + k, top), "cut": bit, "wide": bit, "sign": min(bit, top),
+        "not": bit,
+    }[word]
+    return [[moved] if 0 <= moved <= top else []]
+
+
+def need_places(row, widths, facts, bit):
+    word, width = row[0], row[1]
+    texts = [pattern_of(fact, v)[0] for fact, v in zip(facts, widths)]
+    if word in ("in", "num"):
+        return []
+    if word in ("and", "or"):
+        at = [text[-1 - bit] for text in texts]
+        return settled_places(bit, at[0], at[1], "0" if word == "and" else "1")
+    if word == "xor":
+        return [[bit], [bit]]
+    if word in ("add", "sub"):
+        return [list(range(bit + 1))] * 2
+    if word == "mul":
+        return mul_places(bit, texts[0], texts[1])
+    if word in COMPARES:
+        return [list(range(v)) for v in widths]
+    if word == "pick":
+        return [[0], [] if texts[0] == "0" else [bit], [] if texts[0] == "1" else [bit]]
+    return moved_places(word, width, widths[0], row[3] if word in SHIFTS else 0, bit)
+
+
+def bits_in(mask):
+    return [k for k in range(mask.bit_length()) if mask & 2 ** k]
+
+
+def reckoned_need(row, widths, facts, mask):
+    """All together what the needs of the mask's single bits have."""
+    found = [0] * len(widths)
+    for bit in bits_in(mask):
+        for k, places in enumerate(need_places(row, widths, facts, bit)):
+            for place in places:
+                found[k] |= 2 ** place
+    return tuple(found)
+
+
+def needs_in(program, facts, k, mask):
+    """Of row k: its operands and what it needs of them, as pairs."""
+    rows = program[0]
+    ahead = row_operands(rows[k])
+    found = reckoned_need(rows[k], [rows[a][1] for a in ahead], [facts[a] for a in ahead], mask)
+    return list(zip(ahead, found))
+
+
+def wider_masks(program, facts, seed):
+    """Asked bits that are let by, more than the least ones."""
+    rng = random.Random(seed)
+    rows = program[0]
+    masks = [rng.choice((0, 0, 1, 2 ** (row[1] - 1), rng.randrange(2 ** row[1]))) for row in rows]
+    for out in program[1]:
+        masks[out] = 2 ** rows[out][1] - 1
+    for k in reversed(range(len(rows))):
+        for a, mask in needs_in(program, facts, k, masks[k]):
+            masks[a] |= mask
+    return tuple(masks)

@@ -12,6 +12,7 @@ from fewbits.runs import run
 from helper import (
     BITWISE, COMPARES, EVERY_WORD, SHIFTS, SUMS, TWO_OF_ONE_WIDTH, WORDS, all_kinds, bits_of, closed_pattern, fact_of,
     facts_of_width, leading, pattern_of, reckoned, row_operands, shifted_bits, some_fact, some_inputs, some_program,
+    weaker_facts,
 )
 
 TOP = 2 ** 64 - 1
@@ -404,24 +405,6 @@ def reckoned_facts(program):
     for row in program[0]:
         patterns.append(closed_pattern(*open_pattern(row, [patterns[a] for a in row_operands(row)])))
     return tuple([fact_of(*pattern) for pattern in patterns])
-
-
-def weakened(rng, fact, width):
-    if rng.random() < 0.5:
-        return fact
-    return (fact[0] & rng.randrange(2 ** width), fact[1] & rng.randrange(2 ** width), rng.randint(1, fact[2]))
-
-
-def weaker_facts(program, seed):
-    """Facts that the looker lets by, most of them saying less than the program's own."""
-    rng = random.Random(seed)
-    rows = program[0]
-    facts = []
-    for row in rows:
-        ahead = row_operands(row)
-        told = rule(row, tuple([rows[a][1] for a in ahead]), tuple([facts[a] for a in ahead]))
-        facts.append(weakened(rng, told, row[1]))
-    return tuple(facts)
 
 
 class FactsOf(unittest.TestCase):

@@ -364,3 +364,23 @@ def wider_masks(program, facts, seed):
         for a, mask in needs_in(program, facts, k, masks[k]):
             masks[a] |= mask
     return tuple(masks)
+
+
+def some_stays(program, facts, masks, seed):
+    """Stays that are let by, of any word, by point 19; wider than the least ones, but where these are drawn."""
+    rng = random.Random(seed)
+    found = []
+    for row, fact, mask in zip(program[0], facts, masks):
+        if row[0] == "in":
+            found.append(("cut", row[1]))
+        elif mask == 0:
+            found.append(None)
+        else:
+            wanted = ~fact[0] & mask
+            alike = range(row[1] - fact[2] + 1, row[1] + 1)
+            good = [("cut", kept) for kept in range(mask.bit_length(), row[1] + 1)]
+            good += [("nought", kept) for kept in range(max(1, wanted.bit_length()), row[1] + 1)]
+            good += [("sign", kept) for kept in alike if mask & 2 ** (kept - 1)]
+            good += [("sign", kept) for kept in range(mask.bit_length(), row[1] + 1)]
+            found.append(rng.choice(good))
+    return tuple(found)

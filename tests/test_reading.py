@@ -128,6 +128,16 @@ class SpoiltLines(Refused):
         ):
             self.spoilt_number(spoil)
 
+    def test_each_sign_that_is_no_figure(self):
+        for sign in [chr(k) for k in list(range(32, 127)) + [9, 13, 0xB2, 0x661, 0xFF11]]:
+            if sign not in "0123456789":
+                for part in (sign, sign + "1", "1" + sign, "1" + sign + "1"):
+                    with self.subTest(part=part):
+                        if part.strip(" ") == part and part != "1 1":
+                            self.no_line("in 8\nnum 8 " + part + "\nout 0", 1)
+                        self.no_line("in 8\nin " + part + "\nout 0", 1)
+                        self.no_line("in 8\nin 8\nout " + part + "x", 2)
+
     def test_a_number_left_out(self):
         # Without one of its outs the last line is still one, but for the last out.
         lines = every_word_lines()

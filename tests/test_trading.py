@@ -232,6 +232,14 @@ class Cheaper(Trades):
         rows = (("num", 8, 0x1F), ("and", 8, 0, 3), ("num", 8, 0xF0), ("and", 8, 1, 5), ("add", 8, 4, 6))
         self.last_becomes(rows, "kept", ("add", 8, 4, 6))
 
+    def test_noughts_of_both(self):
+        rows = (("num", 8, 0x0C), ("and", 8, 0, 3), ("num", 8, 0x30), ("and", 8, 1, 5), ("add", 8, 4, 6))
+        self.last_becomes(rows, "cheaper", ("or", 8, 4, 6))
+
+    def test_a_one_of_the_first_and_a_nought_of_the_second(self):
+        rows = (("num", 8, 255), ("num", 8, 0x3C), ("and", 8, 1, 4), ("sub", 8, 3, 5))
+        self.last_becomes(rows, "cheaper", ("xor", 8, 3, 5))
+
     def test_add_so_far_as_it_is_asked(self):
         for mask, word in ((0x0C, "cheaper"), (0x1C, "kept"), (0x4C, "cheaper")):
             rows = (
